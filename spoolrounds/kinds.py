@@ -11,6 +11,11 @@ def is_from_to(thing, low, high):
     return is_whole(thing) and low <= thing <= high
 
 
+def are_whole(thing, many):
+    """Whether it is a tuple of so many whole numbers."""
+    return isinstance(thing, tuple) and len(thing) == many and all([is_whole(part) for part in thing])
+
+
 def copied(thing):
     """A copy of a thing of any kind that shares no list and no dict with it."""
     found = [thing]
