@@ -90,7 +90,7 @@ def great_lots(lay):
     part = lay.spots() // 16
     return [
         [], [(5 * part, 1)], [(2 * part + 1, 3 * part)],
-        [(0, 1), (part, 2 * part), (3 * part, 17), (4 * part, part), (lay.spots() - 1, 1)],
+        [(0, 1), (part, 2 * part), (3 * part, part // 2), (4 * part, part), (lay.spots() - 1, 1)],
         [(0, lay.spots())],
     ]
 
