@@ -99,4 +99,4 @@ def _coming(lay, lot, spot):
 
 
 def _is_in(lot, spot):
-    return seen_in(fused(lot), spot, 1) == 1
+    return seen_in(lot, spot, 1) == 1

@@ -19,10 +19,10 @@ def what_fits(rests):
     if None in rests:
         return ("never", rests.index(None))
     # Numbers leave all rests just where they leave each two, so the first
-    # rest that others leave no number has one of its own to blame.
+    # rest that leaves none with the ones ahead has one of these to blame.
     for k, rest in enumerate(rests):
         for j, elder in enumerate(rests[:k]):
-            if _both(elder, rest) is None:
+            if not _agree(elder, rest):
                 return ("clash", j, k)
     together = (0, 1)
     for rest in rests:
@@ -32,7 +32,7 @@ def what_fits(rests):
 
 def _fitting(lay, start, to, way):
     """The numbers of rounds behind which a spot lies at another one, by a way or by either: (rest, by) or None."""
-    found = Returns(lay, [], sorted(set([(start, 1), (to, 1)])))
+    found = Returns(lay, [], sorted([(start, 1), (to, 1)]))
     rest = 0
     came = 1
     if start != to:
@@ -50,25 +50,26 @@ def _fitting(lay, start, to, way):
     return (rest if way == came else rest + by, 2 * by)
 
 
+def _agree(one, other):
+    """Whether there are numbers that leave both rests."""
+    return (other[0] - one[0]) % gcd(one[1], other[1]) == 0
+
+
 def _both(one, other):
-    """The numbers that leave both rests, as one rest; None where there are none."""
+    """The numbers that leave both of two rests that agree, as one rest."""
     rest, by = one
-    other_rest, other_by = other
-    shared = gcd(by, other_by)
-    times, odd = divmod(other_rest - rest, shared)
-    if odd != 0:
-        return None
-    further = other_by // shared
-    times = times * _inverse(by // shared, further) % further
+    shared = gcd(by, other[1])
+    further = other[1] // shared
+    times = (other[0] - rest) // shared * _inverse(by // shared, further) % further
     return (rest + by * times, by * further)
 
 
 def _inverse(number, by):
-    """What a number that shares no divisor with by is to be taken times to leave 1 by by."""
-    ahead, here = by, number % by
+    """How many times a number that shares no divisor with by leaves 1 by by, perhaps below 0."""
+    ahead, here = by, number
     times_ahead, times_here = 0, 1
     while here > 0:
         often = ahead // here
         ahead, here = here, ahead - often * here
         times_ahead, times_here = times_here, times_ahead - often * times_here
-    return times_ahead % by
+    return times_ahead

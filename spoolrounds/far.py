@@ -62,8 +62,10 @@ def _far(lay, lot, spot, rounds):
 
 def _looped(writing, ring, loops):
     """Rows, each with how often, that lead a spot round its ring so often."""
-    if writing.fact(ring)[3] == 1:
-        return [(ring, loops)] if loops > 0 else []
-    # No row of way -1 is led again and again, but twice it has way 1.
-    out = [(writing.add_then(ring, ring), loops // 2)] if loops > 1 else []
-    return out + [(ring, 1)] if loops & 1 else out
+    out = []
+    if loops > 1:
+        # What has way -1 is not led again and again, but twice round has way 1.
+        out.append((writing.add_then(ring, ring), loops // 2))
+    if loops % 2 == 1:
+        out.append((ring, 1))
+    return out

@@ -36,7 +36,7 @@ def place(gauge, spot):
 
 def behind(rounds, steps, gauge):
     """The gauge that a round comes to at a gauge."""
-    lying = list(gauge)
+    lying = gauge
     for at, step in enumerate(rounds.written(steps)):
         if not _can_be(step, lying):
             raise TooFew(at)

@@ -30,7 +30,7 @@ class Returns:
         # whose fact leads so, perhaps more spots than these.
         self._leaving = {}
         self._coming = {}
-        away = gaps(fused(goal), lay.spots())
+        away = gaps(goal, lay.spots())
         self._begin(lay, fused(lot), away)
         for first, many in away:
             self._take_away(first, first + many)
@@ -46,12 +46,8 @@ class Returns:
         return out
 
     def row_of(self, first, many):
-        """A row of the first return of a stretch of the goal which comes back as one piece would lead it."""
-        rows = self.rows_in(first, many)
-        whole = rows[0]
-        for row in rows[1:]:
-            whole = self.writing.add_beside(whole, row)
-        return whole
+        """A row of the first return of a stretch of the goal, a spot or what goes as one stretch all the way."""
+        return self.rows_in(first, many)[0]
 
     def fact_of(self, spot):
         """The fact of the first return of a spot of the goal alone."""

@@ -71,11 +71,9 @@ def number_at(stretches, spot):
 
 
 def one_at(stretches, spot):
-    """The one of the rising stretches in which a spot lies, or None."""
+    """The last of the rising stretches that begins at a spot or ahead of it, or None."""
     at = number_at(stretches, spot)
-    if at < 0 or spot >= stretches[at][0] + stretches[at][1]:
-        return None
-    return stretches[at]
+    return None if at < 0 else stretches[at]
 
 
 def fused(stretches):

@@ -201,6 +201,45 @@ class Done(unittest.TestCase):
         self.check(Lay(3, [(0, 1, 1, 1), (1, 1, 0, 1), (2, 1, 2, 1)]), Lay(3, [(0, 2, 1, 1), (2, 1, 0, 1)]))
         self.check(Lay(5, [(0, 2, 3, 1), (2, 1, 2, 1), (3, 2, 0, 1)]), Lay(5, [(0, 4, 1, 1), (4, 1, 0, 1)]))
 
+    def test_parts_of_one_base(self):
+        # Two spots go on side by side all the way, but one of them an odd number of times, the other an even one.
+        both = Lay(8, [(0, 4, 4, 1), (4, 4, 0, 1)])
+        for cut in (1, 2, 3):
+            pieces = [(0, cut, 4, 1), (cut, 4 - cut, cut, 1), (4, cut, 0, 1), (4 + cut, 4 - cut, 4 + cut, 1)]
+            self.assertEqual(self.check(Lay(8, pieces), both), 2)
+            pieces = [(0, cut, 0, 1), (cut, 4 - cut, cut + 4, 1), (4, cut, 4, 1), (4 + cut, 4 - cut, cut, 1)]
+            self.assertEqual(self.check(Lay(8, pieces), both), 2)
+        great = Lay(GREAT, [(0, GREAT // 2, GREAT // 2, 1), (GREAT // 2, GREAT // 2, 0, 1)])
+        half = [(0, 5, GREAT // 2, 1), (5, GREAT // 2 - 5, 5, 1), (GREAT // 2, 5, 0, 1)]
+        told = done(Lay(GREAT, [*half, (GREAT // 2 + 5, GREAT // 2 - 5, GREAT // 2 + 5, 1)]), great)
+        self.assertEqual((told[0], len(told[1])), ("none", 2))
+
+    def test_rings_done_each_so_often(self):
+        rng = some("rings apart")
+        kinds = {}
+        for _ in range(400):
+            other = small_lay(rng, most_spots=12)
+            if whole(other)[1] > 100:
+                continue
+            times = [rng.randint(0, 3) for _ in range(other.spots())]
+            led_so = {}
+            for spot in range(other.spots()):
+                ring_of = {spot}
+                at = other.goes(spot)[0]
+                while at != spot:
+                    ring_of.add(at)
+                    at = other.goes(at)[0]
+                to, way = spot, 1
+                for _ in range(times[min(ring_of)]):
+                    to, more = other.goes(to)
+                    way *= more
+                led_so[spot] = (to, way)
+            lay = Lay(other.spots(), [(spot, 1, to, way) for spot, (to, way) in led_so.items()])
+            self.assertIsNone(either_order(lay, other))
+            kind = self.check(lay, other)
+            kinds[kind] = kinds.get(kind, 0) + 1
+        self.assertEqual(set(kinds), {"times", 2})
+
     def test_turned_over_on_the_way(self):
         turning = Lay(5, [(0, 4, 1, 1), (4, 1, 0, -1)])
         for times in range(12):

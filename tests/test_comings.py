@@ -340,6 +340,9 @@ class Visit(unittest.TestCase):
         self.assertEqual(visit(BY_ONE, [(0, 7)], 3, GREAT), GREAT - 1)
         self.assertEqual(visit(BY_ONE, [(3, 1)], 3, GREAT), 7 * (GREAT - 1))
 
+    def test_no_such_time(self):
+        self.assertIsNone(visit(BY_ONE, [(2, 2)], 2, 0))
+
     def test_never(self):
         for lay, lot, spot in ((BY_ONE, [], 3), (APART, [(4, 5)], 1), (APART, [(6, 1)], 4), (Lay(1, [(0, 1, 0, -1)]), [], 0)):
             for k in (1, 2, GREAT):

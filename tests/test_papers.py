@@ -261,6 +261,11 @@ class OfAnything(unittest.TestCase):
         for rule in (("again", True, 2), ("again", 1), ("again", 1, 2, 2), ("again", 1, "2"), ("again", 1, None), ["again", 1, 2]):
             self.assertIs(shows(LAY, LOT, [*again[:2], (again[2][0], rule)]), False)
 
+    def test_no_spots(self):
+        for fact in ((0, 1, 0, 1, 1, 0), (0, 0, 0, 1, 1, 0), (-1, 1, -1, 1, 1, 0), (HUGE, 1, HUGE, 1, 1, 0)):
+            for rule in (("piece",), ("part", 0), ("then", 0, 0), ("again", 0, 2)):
+                self.assertIs(shows(Lay(0, []), [], [(fact, rule)]), False)
+
     def test_great_numbers(self):
         still = Lay(3, [(0, 3, 0, 1)])
         rows = [((0, 3, 0, 1, 1, 1), ("piece",)), ((0, 3, 0, 1, 10 ** 900, 10 ** 900), ("again", 0, 10 ** 900))]

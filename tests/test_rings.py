@@ -241,6 +241,26 @@ class Looks(unittest.TestCase):
             for told in ([(1, 1, 3)], [(2, 1, 3)], [(1, 1, 2)]):
                 self.assertIs(shows_rings(still, told, [base], rows), False)
 
+    def test_what_is_no_base_though_all_else_fits(self):
+        swapped = Lay(4, [(0, 2, 2, 1), (2, 2, 0, 1)])
+        rows = [((0, 2, 2, 1, 1, 1), ("piece",)), ((2, 2, 0, 1, 1, 1), ("piece",))]
+        self.assertIs(shows(swapped, [(0, 2), (2, 2)], rows), True)
+        self.assertIs(shows_rings(swapped, [(1, 1, 4)], [rows[0][0], rows[1][0]], rows), False)
+        half = [((0, 2, 0, 1, 1, 1), ("piece",)), ((0, 2, 0, 1, 2, 2), ("again", 0, 2))]
+        self.assertIs(shows(Lay(4, [(0, 4, 0, 1)]), [(0, 2)], half), True)
+        self.assertIs(shows_rings(Lay(4, [(0, 4, 0, 1)]), [(2, 1, 2)], [half[1][0]], half), False)
+
+    def test_bases_are_a_lot(self):
+        one = (0, 1, 0, 1, 1, 1)
+        for way in (1, -1):
+            lay = Lay(2, [(0, 1, 0, 1), (1, 1, 1, way)])
+            self.assertIs(shows_rings(lay, [(1, 1, 2)], [one, one], [(one, ("piece",))]), False)
+            other = (1, 1, 1, way, 1, 1)
+            rows = [(one, ("piece",)), (other, ("piece",))]
+            told = [(1, 1, 2)] if way == 1 else [(1, -1, 1), (1, 1, 1)]
+            self.assertIs(shows_rings(lay, told, [one, other], rows), True)
+            self.assertIs(shows_rings(lay, told, [other, one], rows), False)
+
     def test_another_form(self):
         still = Lay(3, [(0, 3, 0, 1)])
         rows = [((0, 2, 0, 1, 1, 1), ("piece",)), ((2, 1, 2, 1, 1, 1), ("piece",))]
