@@ -34,11 +34,22 @@ def done(lay, other):
         # What leads a spot and the one that it comes to as the other laying
         # done so often would lead the first one alike in either order.
         return ("none", sorted(set([apart, other.goes(apart)[0]])))
-    spots = _first_spots(lay, other)
-    told = rounds_fit(other, [(spot, *lay.goes(spot)) for spot in spots])
+    spots = first_spots(lay, bases_of(other))
+    told = rounds_fit(other, sights_of(lay, spots))
     if told[0] == "fits":
         return ("times", told[1], told[2])
     return ("none", [spots[k] for k in told[1:]])
+
+
+def first_spots(lay, bases):
+    """The first spots of the parts into which a laying's pieces part bases, rising."""
+    starts = [piece[0] for piece in lay.pieces()]
+    return [part[0] for base in bases for part in cut(base, starts)]
+
+
+def sights_of(lay, spots):
+    """Where a laying leads spots, as sights of another one done some number of times."""
+    return [(spot, *lay.goes(spot)) for spot in spots]
 
 
 def _of_neighbours(lay):
@@ -57,9 +68,3 @@ def _of_neighbours(lay):
 def _ends(lay):
     """The spots at which pieces end, but for the last one: a lot of neighbours that are parted at once."""
     return [(first + many - 1, 1) for first, many, _, _ in lay.pieces()[:-1]]
-
-
-def _first_spots(lay, other):
-    """The first spots of the parts into which a laying's pieces part the bases of another one, rising."""
-    starts = [piece[0] for piece in lay.pieces()]
-    return [part[0] for base in bases_of(other) for part in cut(base, starts)]

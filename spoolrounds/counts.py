@@ -8,10 +8,15 @@ from spoolrounds.stretches import check_spot
 
 def rounds_fit(lay, sights):
     """Just the numbers of rounds that fit all sights (from, to, way), or which sights none fits."""
+    check_sights(lay, sights)
+    return what_fits([_fitting(lay, start, to, way) for start, to, way in sights])
+
+
+def check_sights(lay, sights):
+    """Refuse sights of what is no spot, the first one of them."""
     for start, to, _ in sights:
         check_spot(start, lay.spots())
         check_spot(to, lay.spots())
-    return what_fits([_fitting(lay, start, to, way) for start, to, way in sights])
 
 
 def what_fits(rests):

@@ -36,12 +36,22 @@ def place(gauge, spot):
 
 def behind(rounds, steps, gauge):
     """The gauge that a round comes to at a gauge."""
+    return behind_written(rounds.written(steps), gauge)
+
+
+def behind_written(written, gauge):
+    """The gauge that written out steps come to at a gauge."""
     lying = gauge
-    for at, step in enumerate(rounds.written(steps)):
-        if not _can_be(step, lying):
-            raise TooFew(at)
+    for at, step in enumerate(written):
+        check_step(step, lying, at)
         lying = _behind_step(step, lying)
     return tuple(lying)
+
+
+def check_step(step, lying, at):
+    """Refuse a step, which is numbered at, that can't be where so many yards lie on the spools."""
+    if not _can_be(step, lying):
+        raise TooFew(at)
 
 
 def is_even(rounds, steps, gauge):

@@ -43,6 +43,11 @@ def rings_paper(lay):
 
 def shows_rings(lay, told, bases, rows):
     """Whether told are all rings, and the bases and the rows show them."""
+    return are_bases(lay, bases, rows) and _are_rings(told) and list(told) == _counted(bases)
+
+
+def are_bases(lay, bases, rows):
+    """Whether the bases show all rings, and the rows show the bases, both of anything."""
     if not isinstance(bases, (list, tuple)) or not all([are_whole(base, 6) for base in bases]):
         return False
     lot = _stretches(bases)
@@ -51,9 +56,7 @@ def shows_rings(lay, told, bases, rows):
     facts = {fact: True for fact, _ in rows}
     if not all([base in facts and _is_base(base) for base in bases]):
         return False
-    if sum([many * rounds for _, many, _, _, rounds, _ in bases]) != lay.spots():
-        return False
-    return _are_rings(told) and list(told) == _counted(bases)
+    return sum([many * rounds for _, many, _, _, rounds, _ in bases]) == lay.spots()
 
 
 def bases_of(lay):
@@ -61,6 +64,13 @@ def bases_of(lay):
     found = Returns(lay, [], [])
     pieces = sorted(found.bases)
     return [(first, many, to, way, found.writing.fact(row)[ROUNDS], 1) for first, many, to, way, row in pieces]
+
+
+def plain_paper(lay):
+    """A paper of no lot, without `beside`, in which each of these bases stands with seen 0."""
+    found = Returns(lay, [], [])
+    wanted = [found.writing.add_part(row, first, many) for first, many, _, _, row in found.bases]
+    return found.writing.needed(wanted)
 
 
 def _stretches(bases):

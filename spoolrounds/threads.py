@@ -62,10 +62,11 @@ def yards(row):
 
 def turned(row):
     """The row turned about, in its one form."""
-    return joined([_about(stretch) for stretch in reversed(row)])
+    return joined([about(stretch) for stretch in reversed(row)])
 
 
-def _about(stretch):
+def about(stretch):
+    """A stretch turned about."""
     word, _, many, way = stretch
     return (word, last_number(stretch), many, -way)
 

@@ -1,6 +1,6 @@
 """Written out steps done with the rows that lie on spools."""
 
-from spoolrounds.threads import joined, parted, turned
+from spoolrounds.threads import about, joined, parted, turned
 
 
 def wound_on(rows, step):
@@ -17,3 +17,11 @@ def wound_on(rows, step):
         _, a, b = step
         made[a], made[b] = rows[b], rows[a]
     return made
+
+
+def wound_whole(rows, a, b, many):
+    """The rows, tuples, behind a winding of so many stretches, none of which is joined to another one."""
+    made = list(rows)
+    made[a] = rows[a][many:]
+    made[b] = (*[about(stretch) for stretch in reversed(rows[a][:many])], *rows[b])
+    return tuple(made)

@@ -35,7 +35,16 @@ FUNCTIONS = {
         "shows_rings": ["lay", "told", "bases", "rows"],
     },
     "beside": {"side_by_side": ["lay", "spot"], "either_order": ["one", "other"], "done": ["lay", "other"]},
+    "donepapers": {"done_paper": ["lay", "other"], "shows_done": ["lay", "other", "told", "paper"]},
     "counts": {"rounds_fit": ["lay", "sights"]},
+    "fits": {"fit_papers": ["lay", "sights"], "shows_fit": ["lay", "sights", "told", "papers"]},
+    "dyes": {
+        "are_dyes": ["lay", "thing"], "shown": ["lay", "dyes", "spot", "rounds"], "tally": ["lay", "dyes", "spot", "rounds"],
+        "moment": ["lay", "dyes", "spot", "word", "k"], "dyes_fit": ["lay", "sights"],
+    },
+    "standings": {
+        "is_standing": ["thing"], "wound": ["standing", "steps"], "way_there": ["one", "other"], "fewest": ["one", "other"],
+    },
 }
 CLASSES = {
     ("rounds", "Rounds"): {
