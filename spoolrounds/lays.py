@@ -1,7 +1,7 @@
 """Layings: where each spot of a row is led to, and which way."""
 
 from spoolrounds.errors import NoLay
-from spoolrounds.gauges import behind
+from spoolrounds.gauges import behind_written
 from spoolrounds.kinds import are_whole, is_from_to
 from spoolrounds.stretches import back_of, check_spot, cut, goes_on, is_within, led, one_at
 from spoolrounds.threads import joined, parted, turned, yards
@@ -109,11 +109,16 @@ def _one_form(rising):
 
 def lay_of(rounds, steps, gauge):
     """The laying of the spots of a gauge by a round."""
+    return lay_written(rounds.written(steps), gauge)
+
+
+def lay_written(written, gauge):
+    """The laying of the spots of a gauge by written out steps."""
     # Asked for its refusals alone.
-    behind(rounds, steps, gauge)
+    behind_written(written, gauge)
     # Each spot goes as a yard that is numbered as the spot is.
     rows = [[("spot", sum(gauge[:spool]), many, 1)] if many > 0 else [] for spool, many in enumerate(gauge)]
-    for step in rounds.written(steps):
+    for step in written:
         rows = wound_on(rows, step)
     made = []
     to = 0

@@ -43,10 +43,11 @@ def _is_row(thing, elder):
     if not isinstance(thing, tuple) or len(thing) != 2:
         return False
     fact, rule = thing
-    return are_whole(fact, 6) and _is_rule(rule) and all([is_from_to(k, 0, elder - 1) for k in named_by(rule)])
+    return are_whole(fact, 6) and is_rule(rule) and all([is_from_to(k, 0, elder - 1) for k in named_by(rule)])
 
 
-def _is_rule(thing):
+def is_rule(thing):
+    """Whether it is a rule by itself, whatever its numbers."""
     if not isinstance(thing, tuple) or not thing or not isinstance(thing[0], str):
         return False
     return thing[0] in RULES and are_whole(thing[1:], RULES[thing[0]])

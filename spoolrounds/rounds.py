@@ -44,7 +44,7 @@ def _is_spool(thing):
     return is_from_to(thing, 0, LAST_SPOOL)
 
 
-def _undone(steps):
+def undone(steps):
     """Written out steps that lead back from where the given ones lead."""
     return [_undone_step(step) for step in reversed(steps)]
 
@@ -119,5 +119,5 @@ class Rounds:
             return [step]
         _, name, times = step
         if times < 0:
-            return _undone(self._plain[name]) * -times
+            return undone(self._plain[name]) * -times
         return self._plain[name] * times

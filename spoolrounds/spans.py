@@ -19,3 +19,28 @@ def spans_of(row):
 def are_once(spans):
     """Whether no number is in two of the rising stretches."""
     return all([one[0] + one[1] <= next_one[0] for one, next_one in zip(spans, spans[1:])])
+
+
+def first_again(row, spans):
+    """The first yard of a row, from its top, (word, number), in the spans or ahead of itself in the row, or None."""
+    known = {word: list(spans[word]) for word in spans}
+    for stretch in row:
+        word, first, many, way = stretch
+        its = (least_number(stretch), many)
+        near = [_steps_to(first, way, both) for both in _shared(its, known.get(word, []))]
+        if near:
+            return (word, first + way * min(near))
+        known.setdefault(word, []).append(its)
+    return None
+
+
+def _shared(span, others):
+    """What a stretch of numbers shares with each of others that it shares any with."""
+    both = [(max(span[0], first), min(span[0] + span[1], first + many)) for first, many in others]
+    return [(first, end - first) for first, end in both if first < end]
+
+
+def _steps_to(number, way, span):
+    """How many steps by a way it is from a number to the first one of a stretch of numbers that lies on the way."""
+    first, many = span
+    return first - number if way == 1 else number - first - many + 1

@@ -45,6 +45,8 @@ FUNCTIONS = {
     "standings": {
         "is_standing": ["thing"], "wound": ["standing", "steps"], "way_there": ["one", "other"], "fewest": ["one", "other"],
     },
+    "papertexts": {"show_paper": ["rows"], "read_paper": ["text"]},
+    "roundtexts": {"show_round": ["steps"], "read_round": ["text"]},
 }
 CLASSES = {
     ("rounds", "Rounds"): {
@@ -55,6 +57,12 @@ CLASSES = {
         "__init__": ["self", "total", "pieces"], "pieces": ["self"], "spots": ["self"], "goes": ["self", "spot"],
         "then": ["self", "other"], "back": ["self"], "doubled": ["self"], "__eq__": ["self", "other"], "__len__": ["self"],
     },
+    ("works", "Works"): {
+        "__init__": ["self", "spools"], "tell": ["self", "name", "steps"], "put": ["self", "spool", "row"], "take": ["self", "spool", "many"],
+        "do": ["self", "steps", "times"], "undo": ["self"], "gauge": ["self", "upto"], "yard": ["self", "spool", "depth", "upto"],
+        "where": ["self", "word", "number", "upto"], "top": ["self", "spool", "many", "upto"], "deeds": ["self"], "__len__": ["self"],
+    },
+    ("desk", "Desk"): {"__init__": ["self"], "say": ["self", "row"]},
 }
 LIBRARY = ("heapq", "math", "itertools", "collections")
 

@@ -6,43 +6,21 @@ from spoolrounds.standings import fewest, is_standing, way_there, wound
 from spoolrounds.threads import is_word, joined, turned, yards
 from things import GREAT, HUGE, anything, deep, refusal, same
 from walks import some
+from yards import about, singly, stepped, told_of
 
 ONE = ((("red", 0, 5, 1), ("blue", 9, 3, -1)), (("red", 7, 2, 1),), ())
 TWO = ((("a", 0, 5, 1),), (("b", 0, 3, 1), ("a", 9, 1, -1)))
 
 
-def about(yard):
-    return (*yard[:-1], -yard[-1])
-
-
-def singly(standing):
-    """Each spool's yards (word, number, way), one by one."""
-    return [[(word, first + k * way, way) for word, first, many, way in row for k in range(many)] for row in standing]
-
-
-def told_of(spools):
+def standing_of(spools):
     """The standing of yards one by one."""
-    return tuple(tuple(joined([(word, number, 1, way) for word, number, way in spool])) for spool in spools)
+    return tuple(tuple(told_of(spool)) for spool in spools)
 
 
 def walked(standing, steps):
     """Wound yard by yard; the number of the step that can't be done, or the standing."""
-    spools = singly(standing)
-    for at, step in enumerate(steps):
-        if max(step[1:3] if step[0] != "turn" else step[1:]) >= len(spools):
-            return at
-        if step[0] == "wind":
-            _, a, b, many = step
-            if many > len(spools[a]):
-                return at
-            for _ in range(many):
-                spools[b].insert(0, about(spools[a].pop(0)))
-        elif step[0] == "turn":
-            spools[step[1]] = [about(yard) for yard in reversed(spools[step[1]])]
-        else:
-            _, a, b = step
-            spools[a], spools[b] = spools[b], spools[a]
-    return told_of(spools)
+    made = stepped([singly(row) for row in standing], steps)
+    return made if isinstance(made, int) else standing_of(made)
 
 
 def any_yards(rng, most):
@@ -54,7 +32,7 @@ def dealt(rng, names, spools):
     rows = [[] for _ in range(spools)]
     for word, number in rng.sample(names, len(names)):
         rows[rng.randrange(spools)].append((word, number, rng.choice((1, -1))))
-    return told_of(rows)
+    return standing_of(rows)
 
 
 def great_parts(rng, words, cuts):
@@ -295,13 +273,13 @@ class Fewest(unittest.TestCase):
         while ahead:
             found = []
             for standing in ahead:
-                rows = singly(standing)
+                rows = [singly(row) for row in standing]
                 for a, b in itertools.permutations(range(len(rows)), 2):
                     for many in range(1, len(rows[a]) + 1):
                         made = list(rows)
                         made[a] = rows[a][many:]
                         made[b] = [about(yard) for yard in reversed(rows[a][:many])] + rows[b]
-                        told = told_of(made)
+                        told = standing_of(made)
                         if told not in far:
                             far[told] = far[standing] + 1
                             found.append(told)
