@@ -50,7 +50,7 @@ class Done:
 
     def __init__(self, steps, times, written, ahead):
         self.told = ("do", steps, times)
-        done = [] if times == 0 else written if times > 0 else undone(written)
+        done = _steps_of_one_time(written, times)
         self.behind = behind_written(done, ahead)
         if self.behind != ahead and times not in (-1, 1):
             raise Uneven(times)
@@ -73,6 +73,12 @@ class Done:
             self._orbits = Orbits(self.lay)
         to, way = self._orbits.after(spot(there, spool, depth), rounds)
         return (*place(here, to), way)
+
+
+def _steps_of_one_time(written, times):
+    if times == 0:
+        return []
+    return written if times > 0 else undone(written)
 
 
 def _with_more(gauge, spool, many):

@@ -12,7 +12,6 @@ from spoolrounds.threadtexts import row_of, show_row
 from spoolrounds.works import Works
 
 SPOOLS = 3
-MOST = 10 ** 18
 MOST_FIGURES = 19
 # The words that follow the first word of a row; the last may be a text of several.
 FORMS = {
@@ -21,7 +20,7 @@ FORMS = {
     "ring": ("number", "number", "round"), "rings": ("round",),
     "comes": ("number", "number", "number", "some", "round"),
 }
-BOUNDS = {"number": (0, MOST), "some": (1, MOST), "times": (-MOST, MOST)}
+BOUNDS = {"number": (0, 10 ** 18), "some": (1, 10 ** 18), "times": (-10 ** 18, 10 ** 18)}
 
 
 def _tell(works, name, steps):

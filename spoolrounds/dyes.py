@@ -2,7 +2,6 @@
 
 from spoolrounds.comings import visit
 from spoolrounds.far import after, visits
-from spoolrounds.kinds import are_whole
 from spoolrounds.papers import is_lot
 from spoolrounds.stretches import check_spot, gaps, one_at
 from spoolrounds.threads import is_word
@@ -10,7 +9,7 @@ from spoolrounds.threads import is_word
 
 def are_dyes(lay, thing):
     """Whether it is a list of (from, many, face, back) that fill the laying's row once, rising."""
-    if not isinstance(thing, (list, tuple)) or not all([_is_dye(part) for part in thing]):
+    if not isinstance(thing, (list, tuple)) or not all([_has_words(part) for part in thing]):
         return False
     spans = [part[:2] for part in thing]
     return is_lot(lay, spans) and not gaps(spans, lay.spots())
@@ -55,10 +54,9 @@ def dyes_fit(lay, sights):
     return ("fits", [(*side, word_of[side]) for side in sorted(word_of)])
 
 
-def _is_dye(thing):
-    if not isinstance(thing, tuple) or len(thing) != 4 or not are_whole(thing[:2], 2):
-        return False
-    return is_word(thing[2]) and is_word(thing[3])
+def _has_words(thing):
+    """Whether it is a tuple of four, the last two of which are words."""
+    return isinstance(thing, tuple) and len(thing) == 4 and is_word(thing[2]) and is_word(thing[3])
 
 
 def _sides(lay):

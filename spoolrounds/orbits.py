@@ -15,7 +15,7 @@ class Orbits:
         found = Returns(lay, [], [])
         self._writing = found.writing
         # As they were taken away, rising; bases have no span.
-        bases = [(first, many, 0, row, True) for first, many, _, _, row in found.bases]
+        bases = [(first, 0, row, True) for first, _, _, _, row in found.bases]
         self._parts = sorted(found.taken + bases)
 
     def after(self, spot, rounds):
@@ -36,7 +36,7 @@ class Orbits:
     def _traced(self, spot):
         """A spot of a base, by which way and behind how many rounds it comes to a spot, and the base's row."""
         at, way, behind = spot, 1, 0
-        low, _, span, row, brought = one_at(self._parts, at)
+        low, span, row, brought = one_at(self._parts, at)
         while span > 0:
             fact = self._writing.fact(row)
             times = 1 + (at - low) // span
@@ -46,7 +46,7 @@ class Orbits:
                 at = at - times * span
             else:
                 at = led(back_of(fact) if brought else fact, at, 1)
-            low, _, span, row, brought = one_at(self._parts, at)
+            low, span, row, brought = one_at(self._parts, at)
         return (at, way, row, behind)
 
 

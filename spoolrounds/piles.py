@@ -39,12 +39,9 @@ class Piles:
         self._wind(0, 1, at)
         self._wind(0, 2, 1)
         self._wind(0, 1, len(self._rows[0]) - done)
-        # Two windings leave a stretch as it was, three turn it about.
-        if is_turned:
-            self._wind(2, 1, 1)
-            self._wind(1, 0, 1)
-        else:
-            self._wind(2, 0, 1)
+        # Two windings leave it as it was, three turn it about; what is topmost
+        # on the second spool comes to lie lowest.
+        self._wind(2, 1 if is_turned else 0, 1)
         self._wind(1, 0, len(self._rows[1]))
 
     def _wind(self, a, b, many):

@@ -25,10 +25,9 @@ class Returns:
         self.writing = Writing()
         # Pieces that came to lead back onto themselves, away from the goal.
         self.bases = []
-        # How all other spots were taken away: (from, many, span, row, brought).
-        # By the row, done some number of times, spots came (brought is True)
-        # or go to them that are left: the lowest span of spots is moved by it
-        # once, the next one twice.
+        # How all others were taken away: (from, span, row, brought). The row
+        # leads from spots that are left to the first span of them (brought) or
+        # from that to such spots; done twice it does so with the next span.
         self.taken = []
         # Pieces (from, many, to, way, row), by the spots just behind those that
         # they lead from and just behind those that they lead to; row is one
@@ -104,7 +103,7 @@ class Returns:
             self._put_row(self.writing.add_then(brought, on))
         first, whole, to, way, row = mover
         self._put_rest((first if way == 1 else first + times * span, whole - times * span, to, way, row))
-        self.taken.append((end - times * span, times * span, span, row, True))
+        self.taken.append((end - times * span, span, row, True))
         return times * span
 
     def _lead_on_what_comes(self, mover, many, end):
@@ -117,7 +116,7 @@ class Returns:
             self._put_row(self.writing.add_then(self.writing.add_part(ahead, first, more), row))
         first, whole, to, way, row = mover
         self._put_rest((first, whole - times * span, to if way == 1 else to + times * span, way, row))
-        self.taken.append((end - times * span, times * span, span, row, False))
+        self.taken.append((end - times * span, span, row, False))
         return times * span
 
     def _put_row(self, row):

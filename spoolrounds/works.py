@@ -6,7 +6,7 @@ from spoolrounds.gauges import MOST_YARDS, spot
 from spoolrounds.kinds import is_from_to, is_whole
 from spoolrounds.rounds import Rounds
 from spoolrounds.spans import first_again, spans_of
-from spoolrounds.threads import find, is_stretch, is_word, joined, yard, yards
+from spoolrounds.threads import find, is_stretch, joined, yard, yards
 
 MOST_TOLD = 60
 
@@ -144,7 +144,7 @@ class Works:
 
 def _put_place(deed, word, number):
     """Where a deed put a yard, and which way up: (spool, depth, way), or None."""
-    if deed.told[0] != "put" or not is_word(word) or not is_whole(number):
+    if deed.told[0] != "put" or not is_whole(number):
         return None
     _, spool, row = deed.told
     found = find(row, word, number)

@@ -2,7 +2,7 @@ import unittest
 
 from spoolrounds.counts import rounds_fit
 from spoolrounds.errors import NoSpot
-from spoolrounds.far import after
+from spoolrounds.far import after, after_paper
 from spoolrounds.fits import fit_papers, shows_fit
 from spoolrounds.lays import Lay
 from spoolrounds.papers import shows
@@ -223,6 +223,21 @@ class Looks(unittest.TestCase):
         rows = [((0, 2, 0, 1, 1, 0), ("piece",))]
         self.assertIs(shows_fit(three, [(0, 2, None)], ("never", 0), [(None, None, rows)]), False)
         self.assertIs(shows_fit(three, [(0, 2, None)], ("never", 0), [(None, None, [*rows, ((0, 1, 0, 1, 1, 0), ("part", 0))])]), True)
+
+    def test_facts_of_another_spot(self):
+        swap = Lay(2, [(0, 1, 1, 1), (1, 1, 0, 1)])
+        rows = [((0, 1, 1, 1, 1, 1), ("piece",)), ((1, 1, 0, 1, 1, 0), ("piece",)), ((1, 1, 1, 1, 2, 1), ("then", 1, 0))]
+        self.assertIs(shows(swap, [(0, 1)], rows), True)
+        self.assertIs(shows_fit(swap, [(0, 1, None)], ("fits", 1, 2), [(1, 2, rows)]), False)
+        self.assertIs(shows_fit(swap, [(0, 1, None)], ("fits", 1, 2), [(1, 2, [*rows, ((0, 1, 0, 1, 2, 1), ("then", 0, 1))])]), True)
+
+    def test_papers_of_another_lot(self):
+        # Of no lot all is seen never, of all spots always.
+        for lot in ([], [(0, 12)], [(1, 11)], [(4, 1)], [(3, 2)]):
+            rows = after_paper(BY_ONE, lot, 0, 12)
+            self.assertIs(shows_fit(BY_ONE, [(0, 3, None)], ("never", 0), [(None, None, rows)]), False)
+            self.assertIs(shows_fit(BY_ONE, [(0, 0, None)], ("fits", 0, 12), [(0, 12, rows)]), False)
+        self.assertIs(shows_fit(BY_ONE, [(0, 0, None)], ("fits", 0, 12), [(0, 12, after_paper(BY_ONE, [(0, 1)], 0, 12))]), True)
 
     def test_the_laying_doubled_just_where_the_way_is_told(self):
         turned = Lay(1, [(0, 1, 0, -1)])
