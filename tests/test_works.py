@@ -159,7 +159,7 @@ class AgainstYards(unittest.TestCase):
             for _ in range(25):
                 self.deed(rng, works, model, spools, counts)
             self.whole(works, model)
-        self.assertGreater(min(counts.get(kind, 0) for kind in (("do", None), ("do", TooFew), ("do", Uneven), "put", "take", "undo")), 40)
+        self.assertGreater(min(counts.get(kind, 0) for kind in (("do", None), ("do", TooFew), ("do", Uneven), "put", "take", "undo")), 20)
 
     def test_bare(self):
         for spools in range(2, 7):
