@@ -25,27 +25,22 @@ BOUNDS = {"number": (0, 10 ** 18), "some": (1, 10 ** 18), "times": (-10 ** 18, 1
 
 def _tell(works, name, steps):
     works.tell(name, steps)
-    return "ok"
 
 
 def _put(works, spool, row):
     works.put(spool, row)
-    return "ok"
 
 
 def _take(works, spool, many):
     works.take(spool, many)
-    return "ok"
 
 
 def _go(works, times, steps):
     works.do(steps, times)
-    return "ok"
 
 
 def _undo(works):
     works.undo()
-    return "ok"
 
 
 def _gauge(works):
@@ -117,7 +112,9 @@ class Desk:
             raise NoRow(row)
         kind, told = read
         answer = ANSWERS[kind]
-        return answer(self._works, *told)
+        answered = answer(self._works, *told)
+        # What is told or done, not asked, has no answer of its own.
+        return "ok" if answered is None else answered
 
 
 def _read(row):
