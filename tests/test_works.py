@@ -268,6 +268,23 @@ class Great(unittest.TestCase):
         self.assertEqual(works.top(2, 60), works.top(2, 60, upto=4))
         self.assertEqual(yards(works.top(2, 60)), 60)
 
+    def test_names_many_deep(self):
+        works = Works(2)
+        works.put(0, [("a", 0, 9, 1)])
+        works.tell("x", (("wind", 0, 1, 2), ("turn", 0), ("wind", 1, 0, 2)))
+        elder = "x"
+        for k in range(3000):
+            name = "".join("abcdefghij"[int(figure)] for figure in str(k))
+            works.tell(name, (("do", elder, 1 if k % 2 else -1),))
+            elder = name
+        works.do((("do", elder, 1),), GREAT)
+        works.do((("do", elder, -1),), GREAT)
+        self.assertEqual(works.top(0, 60), [("a", 0, 9, 1)])
+        works.do((("do", elder, 1),))
+        self.assertNotEqual(works.top(0, 60), [("a", 0, 9, 1)])
+        works.do((("do", "x", 1 if (3000 // 2) % 2 else -1),))
+        self.assertEqual(works.top(0, 60), [("a", 0, 9, 1)])
+
     def test_thirty_deeds(self):
         rng = some("thirty deeds")
         works = Works(6)
