@@ -10,7 +10,7 @@ from spoolrounds.returns import Returns
 def fit_papers(lay, sights):
     """A paper (rest, by, rows) of each sight, (None, None, rows) where no number of rounds fits."""
     check_sights(lay, sights)
-    return [_paper(*_looked_for(lay, sight)) for sight in sights]
+    return [_paper(lay, sight) for sight in sights]
 
 
 def shows_fit(lay, sights, told, papers):
@@ -36,14 +36,15 @@ def _looked_for(lay, sight):
     return (lay.doubled(), start, to if way == 1 else 2 * lay.spots() - 1 - to)
 
 
-def _paper(lay, start, looked):
-    found = Returns(lay, [(start, 1)], sorted(set([(start, 1), (looked, 1)])))
+def _paper(lay, sight):
+    where, start, looked = _looked_for(lay, sight)
+    found = Returns(where, [(start, 1)], sorted(set([(start, 1), (looked, 1)])))
     writing = found.writing
     there = found.row_of(start, 1)
     _, _, to, _, rest, _ = writing.fact(there)
     if to != looked:
         # The spot comes back to itself and has not been at the other one.
-        never = Returns(lay, [(looked, 1)], [(start, 1)])
+        never = Returns(where, [(looked, 1)], [(start, 1)])
         return (None, None, never.writing.needed([never.row_of(start, 1)]))
     if start == looked:
         return (0, rest, writing.needed([there]))

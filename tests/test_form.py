@@ -65,10 +65,43 @@ CLASSES = {
     ("desk", "Desk"): {"__init__": ["self"], "say": ["self", "row"]},
 }
 LIBRARY = ("heapq", "math", "itertools", "collections")
+FREE_BEHIND_A_STAR = ("*xs", "*box.rows", "*box.inner.rows", "*(1, 2)", "*[xs, (box.rows, 1)]", "*'ab'", "**d", "**box.more")
+BARRED_BEHIND_A_STAR = (
+    "*f(xs)", "*box.rows()", "*f(xs).rows", "*xs[0]", "*xs[1:]", "*(xs + ys)", "*[f(x)]", "*[x for x in xs]", "*(x for x in xs)",
+    "*(xs if k else ys)", "*[xs, (f(x), 1)]", "*{1: f(x)}", "**f(d)", "**d[0]", "**{'k': 1}",
+)
 
 
 def arguments(asked):
     return list(inspect.signature(asked).parameters)
+
+
+def is_named(node):
+    """Whether it is a name or an attribute off a name."""
+    while isinstance(node, ast.Attribute):
+        node = node.value
+    return isinstance(node, ast.Name)
+
+
+def may_stand_behind_a_star(node):
+    """Whether it is a name, an attribute off a name, a literal, or a list, a tuple or a dict of these."""
+    if isinstance(node, (ast.List, ast.Tuple)):
+        return all(may_stand_behind_a_star(part) for part in node.elts)
+    if isinstance(node, ast.Dict):
+        return all(may_stand_behind_a_star(part) for part in [*node.keys, *node.values])
+    return isinstance(node, ast.Constant) or is_named(node)
+
+
+def barred_stars(tree):
+    """The rows of calls behind whose stars something stands that may not stand there."""
+    found = []
+    for node in ast.walk(tree):
+        if isinstance(node, ast.Call):
+            stars = [part.value for part in node.args if isinstance(part, ast.Starred)]
+            fine = all(may_stand_behind_a_star(part) for part in stars)
+            if not fine or not all(is_named(part.value) for part in node.keywords if part.arg is None):
+                found.append(node.lineno)
+    return found
 
 
 class Interface(unittest.TestCase):
@@ -120,6 +153,17 @@ class Form(unittest.TestCase):
                 if isinstance(node, ast.ImportFrom):
                     own = node.module.startswith("spoolrounds.")
                     self.assertTrue(node.level == 0 and (own or node.module in LIBRARY))
+
+    def test_stars_of_calls(self):
+        for path in self.files():
+            with self.subTest(path.name):
+                self.assertEqual(barred_stars(ast.parse(path.read_text(encoding="utf-8"))), [])
+
+    def test_the_look_at_stars_itself(self):
+        for text in FREE_BEHIND_A_STAR:
+            self.assertEqual(barred_stars(ast.parse(f"f({text})")), [])
+        for text in BARRED_BEHIND_A_STAR:
+            self.assertEqual(barred_stars(ast.parse(f"f({text})")), [1])
 
 
 if __name__ == "__main__":
